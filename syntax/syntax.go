@@ -7,14 +7,12 @@ import (
 	"strings"
 
 	"quayside/api"
+	"quayside/ascii"
 )
 
 // maxDigits keeps numbers far from the end of an int, so that their sums and
 // products with the limits of api do not wrap around.
 const maxDigits = 15
-
-// blanks are the bytes that may surround the parts of a value.
-const blanks = " \t"
 
 // Param is a parameter of a field value: name=value.
 type Param struct{ Name, Value string }
@@ -31,7 +29,7 @@ func Token(s string) bool {
 
 // Quote returns the quoted string that stands for s.
 func Quote(s string) (string, error) {
-	if hasControl(s) {
+	if ascii.HasControl(s) {
 		return "", api.ErrForm
 	}
 	var b strings.Builder
@@ -48,7 +46,7 @@ func Quote(s string) (string, error) {
 
 // Unquote returns what the quoted string s stands for.
 func Unquote(s string) (string, error) {
-	if len(s) < 2 || s[0] != '"' || s[len(s)-1] != '"' || hasControl(s) {
+	if len(s) < 2 || s[0] != '"' || s[len(s)-1] != '"' || ascii.HasControl(s) {
 		return "", api.ErrForm
 	}
 	items := s[1 : len(s)-1]
@@ -121,7 +119,7 @@ func Join(value string, list []Param) (string, error) {
 			text = quoted
 		}
 		b.WriteString("; ")
-		b.WriteString(lower(p.Name))
+		b.WriteString(ascii.Lower(p.Name))
 		b.WriteByte('=')
 		b.WriteString(text)
 	}
@@ -151,7 +149,7 @@ func Number(s string) (int, error) {
 // divide returns the trimmed parts of s between the separators outside of
 // quoted parts. There is always a first part, which may be empty.
 func divide(s string, separator byte) ([]string, error) {
-	if hasControl(s) {
+	if ascii.HasControl(s) {
 		return nil, api.ErrForm
 	}
 	var parts []string
@@ -165,14 +163,14 @@ func divide(s string, separator byte) ([]string, error) {
 			// Outside of quoted parts a \ is a byte like any other.
 			i++
 		case s[i] == separator && !quoted:
-			parts = append(parts, strings.Trim(s[start:i], blanks))
+			parts = append(parts, ascii.Trim(s[start:i]))
 			start = i + 1
 		}
 	}
 	if quoted {
 		return nil, api.ErrForm
 	}
-	return append(parts, strings.Trim(s[start:], blanks)), nil
+	return append(parts, ascii.Trim(s[start:])), nil
 }
 
 // readParam reads name=value, where value is a token or a quoted string.
@@ -188,31 +186,7 @@ func readParam(s string) (Param, error) {
 		}
 		value = text
 	}
-	return Param{Name: lower(name), Value: value}, nil
-}
-
-// lower changes the letters A to Z alone, whatever other bytes s has.
-func lower(s string) string {
-	b := []byte(s)
-	for i, c := range b {
-		if 'A' <= c && c <= 'Z' {
-			b[i] = c - 'A' + 'a'
-		}
-	}
-	return string(b)
-}
-
-func hasControl(s string) bool {
-	for i := 0; i < len(s); i++ {
-		if isControl(s[i]) {
-			return true
-		}
-	}
-	return false
-}
-
-func isControl(c byte) bool {
-	return c < ' ' && c != '\t' || c == 127
+	return Param{Name: ascii.Lower(name), Value: value}, nil
 }
 
 func isTokenByte(c byte) bool {

@@ -1,0 +1,39 @@
+// Package ascii tells apart and changes bytes as chapter 1 defines them, for
+// the layers that need the same. Bytes outside of ASCII are never changed.
+package ascii
+
+import "strings"
+
+// blanks are the bytes that may surround the parts of a value.
+const blanks = " \t"
+
+// Lower returns s with the letters A to Z in lower case. (Functions for
+// Unicode would also change other letters, and bytes that are no text.)
+func Lower(s string) string {
+	b := []byte(s)
+	for i, c := range b {
+		if 'A' <= c && c <= 'Z' {
+			b[i] = c - 'A' + 'a'
+		}
+	}
+	return string(b)
+}
+
+// Trim returns s without the blanks at both ends.
+func Trim(s string) string {
+	return strings.Trim(s, blanks)
+}
+
+// HasControl reports whether s has a control byte.
+func HasControl(s string) bool {
+	for i := 0; i < len(s); i++ {
+		if isControl(s[i]) {
+			return true
+		}
+	}
+	return false
+}
+
+func isControl(c byte) bool {
+	return c < ' ' && c != '\t' || c == 127
+}
