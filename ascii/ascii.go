@@ -1,5 +1,6 @@
-// Package ascii tells apart and changes bytes as chapter 1 defines them, for
-// the layers that need the same. Bytes outside of ASCII are never changed.
+// Package ascii tells apart and changes bytes as chapter 1 and the rules for
+// all layers define them, for the layers that need the same. Bytes outside of
+// ASCII are never changed.
 package ascii
 
 import "strings"
@@ -32,6 +33,16 @@ func HasControl(s string) bool {
 		}
 	}
 	return false
+}
+
+// IsDigit reports whether c is one of 0 to 9.
+func IsDigit(c byte) bool {
+	return '0' <= c && c <= '9'
+}
+
+// IsAlphanumeric reports whether c is a letter or a digit.
+func IsAlphanumeric(c byte) bool {
+	return IsDigit(c) || 'a' <= c && c <= 'z' || 'A' <= c && c <= 'Z'
 }
 
 func isControl(c byte) bool {

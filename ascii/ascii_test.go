@@ -47,6 +47,20 @@ func TestHasControl(t *testing.T) { // P1.1, P2.1
 	}
 }
 
+func TestIsDigitAndIsAlphanumeric(t *testing.T) { // P1.1, P3.1
+	const digits = "0123456789"
+	const letters = "abcdefghijklmnopqrstuvwxyzABCDEFGHIJKLMNOPQRSTUVWXYZ"
+	for i := range 256 {
+		c := byte(i)
+		if got, want := ascii.IsDigit(c), strings.IndexByte(digits, c) >= 0; got != want {
+			t.Errorf("IsDigit(%q) = %v", c, got)
+		}
+		if got, want := ascii.IsAlphanumeric(c), strings.IndexByte(digits+letters, c) >= 0; got != want {
+			t.Errorf("IsAlphanumeric(%q) = %v", c, got)
+		}
+	}
+}
+
 func TestTrim(t *testing.T) { // P1.1, P2.1
 	for _, c := range []struct{ s, want string }{
 		{"", ""},

@@ -132,7 +132,7 @@ func Number(s string) (int, error) {
 		return 0, api.ErrForm
 	}
 	for i := 0; i < len(s); i++ {
-		if !isDigit(s[i]) {
+		if !ascii.IsDigit(s[i]) {
 			return 0, api.ErrForm
 		}
 	}
@@ -194,9 +194,5 @@ func isTokenByte(c byte) bool {
 	case '!', '#', '$', '%', '&', '\'', '*', '+', '-', '.', '^', '_', '`', '|', '~':
 		return true
 	}
-	return isDigit(c) || 'a' <= c && c <= 'z' || 'A' <= c && c <= 'Z'
-}
-
-func isDigit(c byte) bool {
-	return '0' <= c && c <= '9'
+	return ascii.IsAlphanumeric(c)
 }
