@@ -10,6 +10,7 @@ import (
 
 	"quayside/address"
 	"quayside/api"
+	"quayside/samples"
 )
 
 type addr = address.Address
@@ -22,26 +23,6 @@ const (
 
 // unit matches an encoded byte, or a byte that stands for itself.
 var unit = regexp.MustCompile(`%..|[^%]`)
-
-// all calls use with every string of at most n of the parts.
-func all(n int, parts []string, use func(s string)) {
-	level := []string{""}
-	for ; ; n-- {
-		for _, s := range level {
-			use(s)
-		}
-		if n == 0 {
-			return
-		}
-		var longer []string
-		for _, s := range level {
-			for _, part := range parts {
-				longer = append(longer, s+part)
-			}
-		}
-		level = longer
-	}
-}
 
 func some(random *rand.Rand, parts []string, n int) string {
 	var b strings.Builder
@@ -639,18 +620,18 @@ func compareArg(t *testing.T, a addr, name string) {
 }
 
 func TestAllShortHosts(t *testing.T) { // P3.1
-	all(7, []string{"a", "-", ".", "Z", "0"}, func(s string) { compareHost(t, s) })
+	samples.Strings(7, []string{"a", "-", ".", "Z", "0"}, func(s string) { compareHost(t, s) })
 }
 
 func TestAllShortTargets(t *testing.T) { // P3.1, P3.2
 	parts := []string{"/", ".", "a", "%2e", "%", "?", "%2f", "1"}
-	all(5, parts, func(s string) {
+	samples.Strings(5, parts, func(s string) {
 		compareParse(t, "h", s)
 		compareParse(t, "h", "/"+s)
 		compareRead(t, "h/"+s)
 		compareAddress(t, addr{Host: "h", Path: "/" + s})
 	})
-	all(8, []string{"/", ".", "a"}, func(s string) {
+	samples.Strings(8, []string{"/", ".", "a"}, func(s string) {
 		compareParse(t, "h", "/"+s)
 		compareRead(t, s)
 		compareAddress(t, addr{Host: "h", Path: s})
@@ -658,7 +639,7 @@ func TestAllShortTargets(t *testing.T) { // P3.1, P3.2
 }
 
 func TestAllShortQueries(t *testing.T) { // P3.1
-	all(6, []string{"a", "=", "&", "b", "/"}, func(s string) {
+	samples.Strings(6, []string{"a", "=", "&", "b", "/"}, func(s string) {
 		a := addr{Host: "h", Path: "/", Query: s, HasQuery: true}
 		compareAddress(t, a)
 		for _, name := range []string{"", "a", "b", "aa", "a=", "a&b", "="} {
@@ -669,7 +650,7 @@ func TestAllShortQueries(t *testing.T) { // P3.1
 
 func TestUnderOfAllShortPaths(t *testing.T) { // P3.1
 	var paths []string
-	all(4, []string{"/", "a", "b"}, func(s string) { paths = append(paths, s) })
+	samples.Strings(4, []string{"/", "a", "b"}, func(s string) { paths = append(paths, s) })
 	for _, path := range paths {
 		for _, prefix := range paths {
 			compareUnder(t, addr{Path: path}, addr{Path: prefix})

@@ -9,18 +9,13 @@ import (
 
 	"quayside/api"
 	"quayside/field"
+	"quayside/samples"
 )
 
 type fields = field.Fields
 
 // of returns the fields with the names and values given in turn.
-func of(texts ...string) fields {
-	var f fields
-	for i := 0; i < len(texts); i += 2 {
-		f = append(f, field.Field{Name: texts[i], Value: texts[i+1]})
-	}
-	return f
-}
+var of = samples.Fields
 
 // lists calls use with every list of at most n of the fields.
 func lists(n int, from fields, use func(f fields)) {

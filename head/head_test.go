@@ -12,16 +12,11 @@ import (
 	"quayside/api"
 	"quayside/field"
 	"quayside/head"
+	"quayside/samples"
 )
 
 // of returns the fields with the names and values given in turn.
-func of(texts ...string) field.Fields {
-	var f field.Fields
-	for i := 0; i < len(texts); i += 2 {
-		f = append(f, field.Field{Name: texts[i], Value: texts[i+1]})
-	}
-	return f
-}
+var of = samples.Fields
 
 // text returns the head of the lines.
 func text(lines ...string) string {
@@ -461,36 +456,16 @@ func TestEachByteAtEachPlace(t *testing.T) { // P5.1, P5.2
 		text("HTTP/1.1 204 No Content", "A-b: c", "host: D"),
 		text("HTTP/1.1 599"),
 	} {
-		compareRead(t, s)
+		samples.Edits(s, func(s string) { compareRead(t, s) })
 		for at := range s {
 			compareRead(t, s[:at])
-			compareRead(t, s[:at]+s[at+1:])
-			for c := range 256 {
-				compareRead(t, s[:at]+string([]byte{byte(c)})+s[at+1:])
-				compareRead(t, s[:at]+string([]byte{byte(c)})+s[at:])
-			}
 		}
 	}
-}
-
-// all calls use with every string of at most n of the parts.
-func all(n int, parts []string, use func(s string)) {
-	var extend func(s string, left int)
-	extend = func(s string, left int) {
-		use(s)
-		if left == 0 {
-			return
-		}
-		for _, part := range parts {
-			extend(s+part, left-1)
-		}
-	}
-	extend("", n)
 }
 
 func TestAllShortHeads(t *testing.T) { // P5.1, P5.2
-	all(7, []string{"\r", "\n", "a", ":"}, func(s string) { compareRead(t, s) })
-	all(5, []string{"\r\n", "\r", "\n", "\x00", "a: b", " "}, func(s string) {
+	samples.Strings(7, []string{"\r", "\n", "a", ":"}, func(s string) { compareRead(t, s) })
+	samples.Strings(5, []string{"\r\n", "\r", "\n", "\x00", "a: b", " "}, func(s string) {
 		compareRead(t, "GET / HTTP/1.1\r\nhost: a"+s+"\r\n\r\n")
 		compareRead(t, "HTTP/1.1 200"+s)
 		compareRead(t, s+"HTTP/1.1 200\r\n\r\n")
@@ -498,16 +473,16 @@ func TestAllShortHeads(t *testing.T) { // P5.1, P5.2
 }
 
 func TestAllShortStartLines(t *testing.T) { // P5.1, P5.2
-	all(5, []string{"GET", "OPTIONS", "/", "*", " ", "HTTP/1.1", "\t"}, func(s string) {
+	samples.Strings(5, []string{"GET", "OPTIONS", "/", "*", " ", "HTTP/1.1", "\t"}, func(s string) {
 		compareRead(t, text(s, "host: a"))
 	})
-	all(5, []string{"HTTP/1.1", " ", "200", "9", "1", "\t"}, func(s string) {
+	samples.Strings(5, []string{"HTTP/1.1", " ", "200", "9", "1", "\t"}, func(s string) {
 		compareRead(t, text(s, "host: a"))
 	})
 }
 
 func TestAllShortHeaderLines(t *testing.T) { // P5.1, P5.2
-	all(5, []string{"a", ":", " ", "\t", "\r\n", "(", "host: b"}, func(s string) {
+	samples.Strings(5, []string{"a", ":", " ", "\t", "\r\n", "(", "host: b"}, func(s string) {
 		compareRead(t, text("GET / HTTP/1.1", "host: a", s))
 		compareRead(t, text("GET / HTTP/1.1", s))
 		compareRead(t, text("HTTP/1.1 200", s))

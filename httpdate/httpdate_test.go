@@ -9,6 +9,7 @@ import (
 
 	"quayside/api"
 	"quayside/httpdate"
+	"quayside/samples"
 )
 
 const (
@@ -188,13 +189,7 @@ func TestParseOfEachByteAtEachPlace(t *testing.T) { // P4.1
 		if err != nil {
 			t.Fatal(err)
 		}
-		for at := range text {
-			compareParse(t, text[:at]+text[at+1:])
-			for c := range 256 {
-				compareParse(t, text[:at]+string([]byte{byte(c)})+text[at+1:])
-				compareParse(t, text[:at]+string([]byte{byte(c)})+text[at:])
-			}
-		}
+		samples.Edits(text, func(s string) { compareParse(t, s) })
 	}
 }
 

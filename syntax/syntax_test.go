@@ -9,25 +9,11 @@ import (
 	"testing"
 
 	"quayside/api"
+	"quayside/samples"
 	"quayside/syntax"
 )
 
 type params = []syntax.Param
-
-// all calls f with every string of at most n elements of the alphabet.
-func all(n int, alphabet []string, f func(s string)) {
-	var extend func(s string, left int)
-	extend = func(s string, left int) {
-		f(s)
-		if left == 0 {
-			return
-		}
-		for _, a := range alphabet {
-			extend(s+a, left-1)
-		}
-	}
-	extend("", n)
-}
 
 func letters(s string) []string {
 	return strings.Split(s, "")
@@ -338,8 +324,8 @@ func agrees(err error, ok bool) bool {
 }
 
 func TestAllShortStrings(t *testing.T) { // P1.1
-	all(6, letters("a\",;= \\"), func(s string) { compare(t, s) })
-	all(5, letters("aA\"\\;=\t\x7f"), func(s string) { compare(t, "v;a="+s) })
+	samples.Strings(6, letters("a\",;= \\"), func(s string) { compare(t, s) })
+	samples.Strings(5, letters("aA\"\\;=\t\x7f"), func(s string) { compare(t, "v;a="+s) })
 }
 
 func TestRandomStrings(t *testing.T) { // P1.1
@@ -423,7 +409,7 @@ func splitAgain(t *testing.T, s string) {
 }
 
 func TestUnquoteOfQuote(t *testing.T) { // P1.2
-	all(6, letters("\"\\a \t\x7f"), func(s string) { quoteAndBack(t, s) })
+	samples.Strings(6, letters("\"\\a \t\x7f"), func(s string) { quoteAndBack(t, s) })
 	for c := range 256 {
 		quoteAndBack(t, string([]byte{byte(c)}))
 		quoteAndBack(t, string([]byte{'\\', byte(c), '"'}))
@@ -433,7 +419,7 @@ func TestUnquoteOfQuote(t *testing.T) { // P1.2
 func TestSplitOfJoin(t *testing.T) { // P1.2
 	values := []string{"", "a", "A/b", "a b", `"a;b"`, `x"a;\";b"y`, `\`, "a,b=c", "\xff"}
 	var texts []string
-	all(3, letters("aA\"\\; \t"), func(s string) { texts = append(texts, s) })
+	samples.Strings(3, letters("aA\"\\; \t"), func(s string) { texts = append(texts, s) })
 	for _, value := range values {
 		if own, none, err := syntax.Split(value); own != value || len(none) != 0 || err != nil {
 			t.Fatalf("%q is no value: %q, %q, %v", value, own, none, err)
@@ -452,12 +438,12 @@ func TestSplitOfJoin(t *testing.T) { // P1.2
 			}
 		}
 	}
-	all(6, letters("a\";=\\ "), func(s string) { splitAgain(t, s) })
+	samples.Strings(6, letters("a\";=\\ "), func(s string) { splitAgain(t, s) })
 }
 
 func TestListOfElements(t *testing.T) { // P1.3
 	var elements []string
-	all(4, letters("a\",\\ ;"), func(s string) {
+	samples.Strings(4, letters("a\",\\ ;"), func(s string) {
 		if own, err := syntax.List(s); err == nil && slices.Equal(own, []string{s}) {
 			elements = append(elements, s)
 		}
@@ -481,7 +467,7 @@ func TestListOfElements(t *testing.T) { // P1.3
 			t.Errorf("List(%q) = %q, %v; want %q", s.String(), got, err, list)
 		}
 	}
-	all(6, letters("a\",\\ \t"), func(s string) { listAgain(t, s) })
+	samples.Strings(6, letters("a\",\\ \t"), func(s string) { listAgain(t, s) })
 }
 
 func someBlanks(random *rand.Rand) string {
