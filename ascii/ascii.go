@@ -25,10 +25,15 @@ func Trim(s string) string {
 	return strings.Trim(s, blanks)
 }
 
+// IsControl reports whether c is a control byte. A tab is none.
+func IsControl(c byte) bool {
+	return c < ' ' && c != '\t' || c == 127
+}
+
 // HasControl reports whether s has a control byte.
 func HasControl(s string) bool {
 	for i := 0; i < len(s); i++ {
-		if isControl(s[i]) {
+		if IsControl(s[i]) {
 			return true
 		}
 	}
@@ -43,8 +48,4 @@ func IsDigit(c byte) bool {
 // IsAlphanumeric reports whether c is a letter or a digit.
 func IsAlphanumeric(c byte) bool {
 	return IsDigit(c) || 'a' <= c && c <= 'z' || 'A' <= c && c <= 'Z'
-}
-
-func isControl(c byte) bool {
-	return c < ' ' && c != '\t' || c == 127
 }

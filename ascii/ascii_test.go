@@ -35,9 +35,12 @@ func TestLowerChangesTheLettersAlone(t *testing.T) { // P1.1, P2.1
 	}
 }
 
-func TestHasControl(t *testing.T) { // P1.1, P2.1
+func TestIsControlAndHasControl(t *testing.T) { // P1.1, P2.1, P7.1
 	surround(func(c byte, text, before, after string) {
 		want := c < 9 || c > 9 && c < 32 || c == 127
+		if got := ascii.IsControl(c); got != want {
+			t.Errorf("IsControl(%q) = %v", c, got)
+		}
 		if got := ascii.HasControl(before + text + after); got != want {
 			t.Errorf("HasControl(%q) = %v", before+text+after, got)
 		}
