@@ -14,8 +14,12 @@ import (
 	"quayside/samples"
 )
 
-// of returns the fields with the names and values given in turn.
-var of = samples.Fields
+// of returns the fields with the names and values given in turn, and some one
+// of the texts.
+var (
+	of   = samples.Fields
+	some = samples.Some
+)
 
 func repeat(s string, n int) string {
 	return strings.Repeat(s, n)
@@ -62,14 +66,6 @@ func stays(t *testing.T, s string, o outcome) {
 	}
 }
 
-func bytewise(s string) []string {
-	var list []string
-	for i := range len(s) {
-		list = append(list, s[i:i+1])
-	}
-	return list
-}
-
 // compare checks a decoder against reference_test.go, for some cuts of s.
 func compare(t *testing.T, s string) {
 	t.Helper()
@@ -77,7 +73,7 @@ func compare(t *testing.T, s string) {
 	if got := decode(t, s); !same(got, want) {
 		t.Errorf("%.200q: %v; want %v", s, got, want)
 	}
-	for _, parts := range [][]string{bytewise(s), {s[:len(s)/2], "", s[len(s)/2:]}} {
+	for _, parts := range [][]string{samples.Bytewise(s), {s[:len(s)/2], "", s[len(s)/2:]}} {
 		if got := decode(t, parts...); !same(got, want) {
 			t.Errorf("%.200q in parts: %v; want %v", parts, got, want)
 		}
@@ -740,11 +736,6 @@ func TestAllCutsIntoThree(t *testing.T) { // P7.2
 	}
 }
 
-// some returns one of the texts.
-func some(random *rand.Rand, texts ...string) string {
-	return texts[random.Intn(len(texts))]
-}
-
 // someBody returns a body that is often accepted.
 func someBody(random *rand.Rand) string {
 	s := ""
@@ -760,26 +751,8 @@ func someBody(random *rand.Rand) string {
 	return s + "\r\n"
 }
 
-// spoil returns s with some bytes changed, left out or put in.
 func spoil(random *rand.Rand, s string) string {
-	b := []byte(s)
-	for range random.Intn(3) {
-		at := random.Intn(len(b))
-		put := some(random, "\r", "\n", "\r\n", "\x00", " ", ";", ":", "0", "1", "f", "g", "host", "\x7f", "\x80")
-		b = slices.Replace(b, at, at+random.Intn(2), []byte(put)...)
-	}
-	return string(b)
-}
-
-// someCuts returns parts that make s.
-func someCuts(random *rand.Rand, s string) []string {
-	var parts []string
-	for s != "" {
-		n := random.Intn(min(len(s), 1+random.Intn(40)) + 1)
-		parts = append(parts, s[:n])
-		s = s[n:]
-	}
-	return parts
+	return samples.Spoil(random, s, "\r", "\n", "\r\n", "\x00", " ", ";", ":", "0", "1", "f", "g", "host", "\x7f", "\x80")
 }
 
 func TestRandomBodies(t *testing.T) { // P7.1, P7.2
@@ -791,7 +764,7 @@ func TestRandomBodies(t *testing.T) { // P7.1, P7.2
 		}
 		for _, s := range []string{s + some(random, followers...), spoil(random, s)} {
 			want := referenceDecode(s)
-			parts := someCuts(random, s)
+			parts := samples.Cuts(random, s)
 			if got := decode(t, parts...); !same(got, want) {
 				t.Errorf("%.400q in parts: %v; want %v", parts, got, want)
 			}

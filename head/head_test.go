@@ -15,8 +15,12 @@ import (
 	"quayside/samples"
 )
 
-// of returns the fields with the names and values given in turn.
-var of = samples.Fields
+// of returns the fields with the names and values given in turn, and some one
+// of the texts.
+var (
+	of   = samples.Fields
+	some = samples.Some
+)
 
 // text returns the head of the lines.
 func text(lines ...string) string {
@@ -814,11 +818,6 @@ func TestHeadsOneAfterTheOther(t *testing.T) { // P5.2, and P2
 	}
 }
 
-// some returns one of the texts.
-func some(random *rand.Rand, texts ...string) string {
-	return texts[random.Intn(len(texts))]
-}
-
 // someHead returns a head that is often accepted.
 func someHead(random *rand.Rand) string {
 	lines := []string{some(random, "GET", "POST", "OPTIONS", "A") + " " + some(random, "/", "/a", "*", "/a?b=%20") + " HTTP/1.1"}
@@ -833,16 +832,8 @@ func someHead(random *rand.Rand) string {
 	return text(lines...)
 }
 
-// spoil returns s with some bytes changed, left out or put in.
 func spoil(random *rand.Rand, s string) string {
-	b := []byte(s)
-	for range random.Intn(3) {
-		at := random.Intn(len(b))
-		put := some(random, "\r", "\n", "\r\n", "\x00", " ", "\t", ":", "a", "A", "0", "\x7f", "\x80")
-		leave := random.Intn(2)
-		b = slices.Replace(b, at, at+leave, []byte(put)...)
-	}
-	return string(b)
+	return samples.Spoil(random, s, "\r", "\n", "\r\n", "\x00", " ", "\t", ":", "a", "A", "0", "\x7f", "\x80")
 }
 
 func TestRandomHeads(t *testing.T) { // P5.1, P5.2

@@ -2,7 +2,11 @@
 // layer, and no layer imports it.
 package samples
 
-import "quayside/field"
+import (
+	"slices"
+
+	"quayside/field"
+)
 
 // Fields returns the fields with the names and values given in turn.
 func Fields(texts ...string) field.Fields {
@@ -44,4 +48,47 @@ func Edits(s string, use func(s string)) {
 			use(s[:at] + string([]byte{byte(c)}) + s[at+1:])
 		}
 	}
+}
+
+// Bytewise returns the bytes of s, each alone.
+func Bytewise(s string) []string {
+	var parts []string
+	for i := range len(s) {
+		parts = append(parts, s[i:i+1])
+	}
+	return parts
+}
+
+// Random chooses numbers from 0 to n-1, as a *rand.Rand does. (This package has
+// no random source of its own, since it is no test.)
+type Random interface {
+	Intn(n int) int
+}
+
+// Some returns one of the texts.
+func Some(random Random, texts ...string) string {
+	return texts[random.Intn(len(texts))]
+}
+
+// Spoil returns s, which is not empty, with some bytes left out, or put in, or
+// changed. What is put in is one of the texts, which are not empty.
+func Spoil(random Random, s string, texts ...string) string {
+	b := []byte(s)
+	for range random.Intn(3) {
+		at := random.Intn(len(b))
+		put := []byte(Some(random, texts...))
+		b = slices.Replace(b, at, at+random.Intn(2), put...)
+	}
+	return string(b)
+}
+
+// Cuts returns parts that make s, of which some are empty.
+func Cuts(random Random, s string) []string {
+	var parts []string
+	for s != "" {
+		n := random.Intn(min(len(s), 1+random.Intn(40)) + 1)
+		parts = append(parts, s[:n])
+		s = s[n:]
+	}
+	return parts
 }

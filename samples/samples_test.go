@@ -1,7 +1,9 @@
 package samples_test
 
 import (
+	"math/rand"
 	"slices"
+	"strings"
 	"testing"
 
 	"quayside/field"
@@ -56,6 +58,60 @@ func TestEdits(t *testing.T) {
 			if !seen[member] {
 				t.Errorf("Edits(%q) lack %q", c.s, member)
 			}
+		}
+	}
+}
+
+func TestBytewise(t *testing.T) {
+	if parts := samples.Bytewise("a\xff\u00e9"); !slices.Equal(parts, []string{"a", "\xff", "\xc3", "\xa9"}) {
+		t.Errorf("Bytewise = %q", parts)
+	}
+	if parts := samples.Bytewise(""); len(parts) != 0 {
+		t.Errorf("Bytewise of nothing = %q", parts)
+	}
+}
+
+// distinct returns what some calls of f return, sorted and each once.
+func distinct(f func() string) []string {
+	var list []string
+	for range 2000 {
+		list = append(list, f())
+	}
+	slices.Sort(list)
+	return slices.Compact(list)
+}
+
+func TestSome(t *testing.T) {
+	random := rand.New(rand.NewSource(1))
+	list := distinct(func() string { return samples.Some(random, "a", "", "c") })
+	if !slices.Equal(list, []string{"", "a", "c"}) {
+		t.Errorf("Some = %q", list)
+	}
+}
+
+func TestSpoil(t *testing.T) {
+	random := rand.New(rand.NewSource(2))
+	list := distinct(func() string { return samples.Spoil(random, "ab", "xy") })
+	for _, s := range []string{"ab", "xyab", "xyb", "axyb", "axy", "xyxyb"} {
+		if !slices.Contains(list, s) {
+			t.Errorf("Spoil never returns %q, but %q", s, list)
+		}
+	}
+}
+
+func TestCuts(t *testing.T) {
+	random := rand.New(rand.NewSource(3))
+	for _, s := range []string{"", "a", "abc", strings.Repeat("abc", 100)} {
+		for range 100 {
+			if parts := samples.Cuts(random, s); strings.Join(parts, "") != s {
+				t.Errorf("Cuts(%q) = %q", s, parts)
+			}
+		}
+	}
+	list := distinct(func() string { return strings.Join(samples.Cuts(random, "abc"), "|") })
+	for _, s := range []string{"abc", "a|b|c", "ab|c", "a|bc", "|abc", "a||bc"} {
+		if !slices.Contains(list, s) {
+			t.Errorf("Cuts never returns %q, but %q", s, list)
 		}
 	}
 }
