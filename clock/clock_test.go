@@ -8,22 +8,14 @@ import (
 
 	"quayside/api"
 	"quayside/clock"
+	"quayside/samples"
 )
-
-// around returns each of the numbers with its neighbours, and the ends of an int.
-func around(numbers ...int) []int {
-	list := []int{math.MinInt, math.MinInt + 1, math.MinInt / 2, math.MaxInt / 2, math.MaxInt - 1, math.MaxInt}
-	for _, n := range numbers {
-		list = append(list, n-1, n, n+1)
-	}
-	return list
-}
 
 // Numbers at the ends of the ranges that chapter 12 names, and of an int.
 var (
-	timeEdges  = around(-maxTime, 0, 3, 1000, 1<<20, 1<<32, maxTime/2, maxTime)
-	termEdges  = around(-5, 0, 7, 1000, maxTerm)
-	driftEdges = around(-maxPpm, 0, 10, 50000, maxPpm, parts, maxTime)
+	timeEdges  = samples.Around(-maxTime, 0, 3, 1000, 1<<20, 1<<32, maxTime/2, maxTime)
+	termEdges  = samples.Around(-5, 0, 7, 1000, maxTerm)
+	driftEdges = samples.Around(-maxPpm, 0, 10, 50000, maxPpm, parts, maxTime)
 )
 
 // drifts are within the range.

@@ -3,6 +3,7 @@
 package samples
 
 import (
+	"math"
 	"slices"
 
 	"quayside/field"
@@ -57,6 +58,15 @@ func Bytewise(s string) []string {
 		parts = append(parts, s[i:i+1])
 	}
 	return parts
+}
+
+// Around returns each of the numbers with its neighbours, and the ends of an int.
+func Around(numbers ...int) []int {
+	list := []int{math.MinInt, math.MinInt + 1, math.MinInt / 2, math.MaxInt / 2, math.MaxInt - 1, math.MaxInt}
+	for _, n := range numbers {
+		list = append(list, n-1, n, n+1)
+	}
+	return list
 }
 
 // Random chooses numbers from 0 to n-1, as a *rand.Rand does. (This package has

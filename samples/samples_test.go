@@ -1,6 +1,7 @@
 package samples_test
 
 import (
+	"math"
 	"math/rand"
 	"slices"
 	"strings"
@@ -68,6 +69,16 @@ func TestBytewise(t *testing.T) {
 	}
 	if parts := samples.Bytewise(""); len(parts) != 0 {
 		t.Errorf("Bytewise of nothing = %q", parts)
+	}
+}
+
+func TestAround(t *testing.T) {
+	ends := []int{math.MinInt, math.MinInt + 1, -1 << 62, 1<<62 - 1, math.MaxInt - 1, math.MaxInt}
+	if list := samples.Around(); !slices.Equal(list, ends) {
+		t.Errorf("Around nothing = %d", list)
+	}
+	if list := samples.Around(-1, 7); !slices.Equal(list, append(ends, -2, -1, 0, 6, 7, 8)) {
+		t.Errorf("Around = %d", list)
 	}
 }
 
