@@ -370,25 +370,12 @@ func TestAllowance(t *testing.T) { // P14.1, P14.2
 	}
 }
 
-// subsets calls use with every subset of the texts, in order.
-func subsets(texts []string, use func(list []string)) {
-	for chosen := range 1 << len(texts) {
-		var list []string
-		for i, text := range texts {
-			if chosen>>i&1 != 0 {
-				list = append(list, text)
-			}
-		}
-		use(list)
-	}
-}
-
 func TestSetsOfDirectives(t *testing.T) { // P14.1, P14.2
 	list := []string{
 		"no-store", "no-cache", "private", "must-revalidate", "proxy-revalidate", "max-age=60", "max-age", "s-maxage=10",
 		"stale-while-revalidate=5", "stale-if-error=9", "max-stale=3", "min-fresh=4", "public",
 	}
-	subsets(list, func(list []string) {
+	samples.Subsets(list, func(list []string) {
 		f := control(strings.Join(list, ", "), "date", date, "last-modified", sooner)
 		compare(t, 200, f)
 		// Nothing but these counts against an allowance.
@@ -412,7 +399,7 @@ func TestSetsOfFields(t *testing.T) { // P14.1, P14.2
 		"date:" + date, "Date:" + later, "expires:" + later, "Expires:0", "last-modified:" + sooner, "Last-Modified:x",
 		"cache-control:max-age=7", "Cache-Control:s-maxage=8, stale-if-error=5", "cache-control:public, stale-while-revalidate=6", "x:" + date,
 	}
-	subsets(list, func(list []string) {
+	samples.Subsets(list, func(list []string) {
 		var f field.Fields
 		for _, text := range list {
 			name, value, _ := strings.Cut(text, ":")

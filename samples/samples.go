@@ -34,6 +34,19 @@ func extend(s string, n int, parts []string, use func(s string)) {
 	}
 }
 
+// Subsets calls use with every subset of the texts, in order.
+func Subsets(texts []string, use func(list []string)) {
+	for chosen := range 1 << len(texts) {
+		var list []string
+		for i, text := range texts {
+			if chosen>>i&1 != 0 {
+				list = append(list, text)
+			}
+		}
+		use(list)
+	}
+}
+
 // Edits calls use with s and with every string that one byte more, one byte
 // less or another byte makes of it.
 func Edits(s string, use func(s string)) {

@@ -40,6 +40,20 @@ func TestStrings(t *testing.T) {
 	}
 }
 
+func TestSubsets(t *testing.T) {
+	var sets []string
+	samples.Subsets([]string{"a", "b", "cd"}, func(list []string) { sets = append(sets, strings.Join(list, "|")) })
+	slices.Sort(sets)
+	if want := []string{"", "a", "a|b", "a|b|cd", "a|cd", "b", "b|cd", "cd"}; !slices.Equal(sets, want) {
+		t.Errorf("Subsets = %q; want %q", sets, want)
+	}
+	n := 0
+	samples.Subsets(nil, func(list []string) { n += 1 + len(list) })
+	if n != 1 {
+		t.Errorf("Subsets of nothing have %d lists and texts", n)
+	}
+}
+
 func TestEdits(t *testing.T) {
 	for _, c := range []struct {
 		s       string
