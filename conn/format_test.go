@@ -199,22 +199,11 @@ func TestFormatRefuses(t *testing.T) { // P8.1
 	}
 }
 
-// extend calls use with list and with list followed by at most n of the events.
-func extend(list []conn.Event, n int, events []conn.Event, use func(list []conn.Event)) {
-	use(list)
-	if n <= 0 {
-		return
-	}
-	for _, e := range events {
-		extend(append(slices.Clip(list), e), n-1, events, use)
-	}
-}
-
 func TestAllShortListsOfEvents(t *testing.T) { // P8.1
-	extend(nil, 5, []conn.Event{get, request("PUT", "/", "content-length", "1"), coded, data("a"), data(""), end(), end("a", "b"), response(200)}, func(list []conn.Event) {
+	samples.Lists(5, []conn.Event{get, request("PUT", "/", "content-length", "1"), coded, data("a"), data(""), end(), end("a", "b"), response(200)}, func(list []conn.Event) {
 		compareFormat(t, list)
 	})
-	extend(nil, 4, []conn.Event{response(100), response(200), response(304), response(200, "content-length", "2"), response(200, coding...), data("a"), data("bc"), end(), end("host", "b"), response(99), {}, three}, func(list []conn.Event) {
+	samples.Lists(4, []conn.Event{response(100), response(200), response(304), response(200, "content-length", "2"), response(200, coding...), data("a"), data("bc"), end(), end("host", "b"), response(99), {}, three}, func(list []conn.Event) {
 		compareFormat(t, list)
 	})
 }

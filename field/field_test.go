@@ -17,21 +17,6 @@ type fields = field.Fields
 // of returns the fields with the names and values given in turn.
 var of = samples.Fields
 
-// lists calls use with every list of at most n of the fields.
-func lists(n int, from fields, use func(f fields)) {
-	var extend func(f fields, left int)
-	extend = func(f fields, left int) {
-		use(f)
-		if left == 0 {
-			return
-		}
-		for _, x := range from {
-			extend(append(slices.Clone(f), x), left-1)
-		}
-	}
-	extend(nil, n)
-}
-
 func TestName(t *testing.T) { // P2.1
 	long := strings.Repeat("Ab", 32)
 	for _, c := range []struct {
@@ -439,7 +424,7 @@ func others(f fields, name string) fields {
 
 func TestAllShortLists(t *testing.T) { // P2.1, P2.2
 	from := of("a", "1", "A", "2", "b", "1", "Connection", "B, te", "connection", `x, "`, "TE", "", "", "a", "X", "\n")
-	lists(4, from, func(f fields) {
+	samples.Lists(4, from, func(f fields) {
 		for _, name := range []string{"a", "B", "CONNECTION", ""} {
 			compareFields(t, f, name, "a, x")
 			keepPromise(t, f, name, "a, x")
@@ -450,7 +435,7 @@ func TestAllShortLists(t *testing.T) { // P2.1, P2.2
 func TestSameOfAllShortLists(t *testing.T) { // P2.1
 	from := of("a", "1", "A", "1", "a", "2", "b", "1", "", "1")
 	var all []fields
-	lists(3, from, func(f fields) { all = append(all, f) })
+	samples.Lists(3, from, func(f fields) { all = append(all, f) })
 	for _, a := range all {
 		for _, b := range all {
 			if got, want := field.Same(a, b), referenceSame(a, b); got != want {

@@ -34,6 +34,22 @@ func extend(s string, n int, parts []string, use func(s string)) {
 	}
 }
 
+// Lists calls use with every list of at most n of the items.
+func Lists[S ~[]E, E any](n int, items S, use func(list S)) {
+	lengthen(nil, n, items, use)
+}
+
+// lengthen calls use with the list and with it followed by at most n of the items.
+func lengthen[S ~[]E, E any](list S, n int, items S, use func(list S)) {
+	use(slices.Clone(list))
+	if n <= 0 {
+		return
+	}
+	for _, item := range items {
+		lengthen(append(slices.Clip(list), item), n-1, items, use)
+	}
+}
+
 // Subsets calls use with every subset of the texts, in order.
 func Subsets(texts []string, use func(list []string)) {
 	for chosen := range 1 << len(texts) {

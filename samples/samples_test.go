@@ -40,6 +40,42 @@ func TestStrings(t *testing.T) {
 	}
 }
 
+func TestLists(t *testing.T) {
+	for _, c := range []struct {
+		n    int
+		want [][]int
+	}{
+		{-1, [][]int{{}}},
+		{0, [][]int{{}}},
+		{1, [][]int{{}, {1}, {23}}},
+		{2, [][]int{{}, {1}, {1, 1}, {1, 23}, {23}, {23, 1}, {23, 23}}},
+	} {
+		var lists [][]int
+		samples.Lists(c.n, []int{1, 23}, func(list []int) { lists = append(lists, list) })
+		slices.SortFunc(lists, slices.Compare[[]int])
+		if !slices.EqualFunc(lists, c.want, slices.Equal[[]int]) {
+			t.Errorf("Lists(%d) = %d; want %d", c.n, lists, c.want)
+		}
+	}
+}
+
+func TestListsOfTheirOwn(t *testing.T) {
+	n := 0
+	samples.Lists(4, []string{"a", "b"}, func(list []string) {
+		if slices.Contains(list, "x") {
+			t.Errorf("Lists share memory: %q", list)
+		}
+		for i := range list {
+			list[i] = "x"
+		}
+		list = append(list, "x")
+		n++
+	})
+	if n != 31 {
+		t.Errorf("Lists are %d", n)
+	}
+}
+
 func TestSubsets(t *testing.T) {
 	var sets []string
 	samples.Subsets([]string{"a", "b", "cd"}, func(list []string) { sets = append(sets, strings.Join(list, "|")) })

@@ -380,17 +380,11 @@ func fieldOf(text string) field.Field {
 
 // lists calls use with every list of at most n of the fields.
 func lists(n int, texts []string, use func(f field.Fields)) {
-	var extend func(f field.Fields)
-	extend = func(f field.Fields) {
-		use(slices.Clone(f))
-		if len(f) == n {
-			return
-		}
-		for _, text := range texts {
-			extend(append(slices.Clone(f), fieldOf(text)))
-		}
+	var from field.Fields
+	for _, text := range texts {
+		from = append(from, fieldOf(text))
 	}
-	extend(nil)
+	samples.Lists(n, from, use)
 }
 
 func TestFieldsInAnyOrder(t *testing.T) { // P15.1, P15.2
