@@ -6,6 +6,7 @@ import (
 
 	"quayside/age"
 	"quayside/clock"
+	"quayside/samples"
 )
 
 // A response that was made at a true time is passed on by a chain of caches. The
@@ -29,9 +30,9 @@ type link struct {
 // reading returns what the clock, which is valid, shows at a true time.
 func reading(t *testing.T, c clock.Clock, at int) int {
 	t.Helper()
-	n, err := clock.Read(c, at)
-	if err != nil || n > maxTime {
-		t.Fatalf("Read(%+v, %d) = %d, %v", c, at, n, err)
+	n := samples.Reading(c, at)
+	if n > maxTime {
+		t.Fatalf("%+v shows %d at %d", c, n, at)
 	}
 	return n
 }
@@ -92,26 +93,11 @@ func keepAge(t *testing.T, c cache, made, ppm, at int) {
 	}
 }
 
-const den = 10000
-
-// limitClocks returns the slowest, an exact, and the fastest clock within ppm, a
-// multiple of 100.
-func limitClocks(ppm int) []clock.Clock {
-	return []clock.Clock{
-		{Offset: 3, Num: den - ppm/100, Den: den},
-		{Num: 1, Den: 1},
-		{Offset: 70000, Num: den + ppm/100, Den: den},
-	}
-}
-
 func TestAgeLiesBetweenTheBounds(t *testing.T) { // P13.2, P13.3
 	delays := []int{0, 1, 999, 1000}
 	for _, ppm := range []int{0, 100, 100000} {
 		var links []link
-		for _, c := range limitClocks(ppm) {
-			if !clock.Within(c, ppm) {
-				t.Fatalf("Within(%+v, %d) is false", c, ppm)
-			}
+		for _, c := range samples.Clocks(ppm) {
 			for i := range len(delays) * len(delays) * len(delays) {
 				wait, request, answer := delays[i%4], delays[i/4%4], delays[i/16]
 				links = append(links, link{clock: c, wait: wait, request: request, answer: answer})
@@ -127,8 +113,8 @@ func TestAgeLiesBetweenTheBounds(t *testing.T) { // P13.2, P13.3
 
 func TestAgeAtEachMoment(t *testing.T) { // P13.2, P13.3
 	for _, ppm := range []int{0, 1000, 100000} {
-		for _, first := range limitClocks(ppm) {
-			for _, second := range limitClocks(ppm) {
+		for _, first := range samples.Clocks(ppm) {
+			for _, second := range samples.Clocks(ppm) {
 				for wait := range 1200 {
 					links := []link{{clock: first, request: 2, answer: 3}, {clock: second, wait: wait, request: 700, answer: 1}}
 					keepChain(t, 100, ppm, links, wait, 2*wait)
@@ -141,6 +127,7 @@ func TestAgeAtEachMoment(t *testing.T) { // P13.2, P13.3
 // randomClock returns a clock within ppm, a multiple of 100, often one of the
 // slowest or fastest.
 func randomClock(random *rand.Rand, ppm int) clock.Clock {
+	const den = 10000
 	most := ppm / 100
 	by := min(max(random.Intn(4*most+1)-2*most, -most), most)
 	return clock.Clock{Offset: random.Intn(maxTime / 4), Num: den + by, Den: den}

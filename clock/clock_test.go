@@ -54,20 +54,10 @@ func compareLease(t *testing.T, l, ppm int) {
 	}
 }
 
-// reading returns a reading of a valid clock.
-func reading(t *testing.T, c clock.Clock, at int) int {
-	t.Helper()
-	n, err := clock.Read(c, at)
-	if err != nil {
-		t.Fatalf("Read(%+v, %d): %v", c, at, err)
-	}
-	return n
-}
-
 // keepElapsed checks P12.2 for the clock, which is within ppm.
 func keepElapsed(t *testing.T, c clock.Clock, ppm, at, ticks int) {
 	t.Helper()
-	d := reading(t, c, at+ticks) - reading(t, c, at)
+	d := samples.Reading(c, at+ticks) - samples.Reading(c, at)
 	if d > api.MaxTime {
 		return
 	}
@@ -78,11 +68,10 @@ func keepElapsed(t *testing.T, c clock.Clock, ppm, at, ticks int) {
 
 // reaches returns the first true time from start on at which the clock has gone
 // on by d since start, or the one after the last true time.
-func reaches(t *testing.T, c clock.Clock, start, d int) int {
-	t.Helper()
-	first := reading(t, c, start)
+func reaches(c clock.Clock, start, d int) int {
+	first := samples.Reading(c, start)
 	return start + sort.Search(api.MaxTime+1-start, func(ticks int) bool {
-		return reading(t, c, start+ticks)-first >= d
+		return samples.Reading(c, start+ticks)-first >= d
 	})
 }
 
@@ -90,8 +79,8 @@ func reaches(t *testing.T, c clock.Clock, start, d int) int {
 // waited, the holder, which begins at start, does not hold any more.
 func keepLease(t *testing.T, holder, issuer clock.Clock, ppm, l, start, later int) {
 	t.Helper()
-	ends := reaches(t, holder, start, clock.Hold(l, ppm))
-	free := reaches(t, issuer, start+later, clock.Wait(l, ppm))
+	ends := reaches(holder, start, clock.Hold(l, ppm))
+	free := reaches(issuer, start+later, clock.Wait(l, ppm))
 	if ends > free {
 		t.Errorf("lease of %d, ppm %d: %+v holds it from %d to before %d, but %+v has waited at %d", l, ppm, holder, start, ends, issuer, free)
 	}
@@ -444,10 +433,10 @@ func TestNoHolderHoldsWhatWasWaitedFor(t *testing.T) { // P12.3
 func holdsWhileWaiting(t *testing.T, holder, issuer clock.Clock, ppm, l, start, later int) {
 	t.Helper()
 	hold, wait := clock.Hold(l, ppm), clock.Wait(l, ppm)
-	first, second := reading(t, holder, start), reading(t, issuer, start+later)
+	first, second := samples.Reading(holder, start), samples.Reading(issuer, start+later)
 	for at := start + later; at < start+later+2*l+5; at++ {
-		holds := reading(t, holder, at)-first < hold
-		waited := reading(t, issuer, at)-second >= wait
+		holds := samples.Reading(holder, at)-first < hold
+		waited := samples.Reading(issuer, at)-second >= wait
 		if holds && waited {
 			t.Errorf("lease of %d, ppm %d: at %d, %+v holds it since %d, and %+v has waited since %d", l, ppm, at, holder, start, issuer, start+later)
 		}

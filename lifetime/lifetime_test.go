@@ -14,13 +14,9 @@ import (
 	"quayside/samples"
 )
 
-// The dates of the chapter's examples, and the first and the last date.
 const (
-	date   = "Sun, 06 Nov 1994 08:49:37 GMT"
-	later  = "Sun, 06 Nov 1994 08:50:37 GMT" // a minute
-	sooner = "Sun, 06 Nov 1994 08:32:57 GMT" // 1000 seconds
-	first  = "Thu, 01 Jan 1970 00:00:00 GMT"
-	last   = "Fri, 31 Dec 9999 23:59:59 GMT"
+	date, later, sooner = samples.Date, samples.Later, samples.Sooner
+	first, last         = samples.FirstDate, samples.LastDate
 )
 
 const (

@@ -6,7 +6,18 @@ import (
 	"math"
 	"slices"
 
+	"quayside/clock"
 	"quayside/field"
+)
+
+// The date of the document's examples, one that is a minute later, one that is
+// 1000 seconds sooner, and the first and the last date that there are.
+const (
+	Date      = "Sun, 06 Nov 1994 08:49:37 GMT"
+	Later     = "Sun, 06 Nov 1994 08:50:37 GMT"
+	Sooner    = "Sun, 06 Nov 1994 08:32:57 GMT"
+	FirstDate = "Thu, 01 Jan 1970 00:00:00 GMT"
+	LastDate  = "Fri, 31 Dec 9999 23:59:59 GMT"
 )
 
 // Fields returns the fields with the names and values given in turn.
@@ -96,6 +107,26 @@ func Around(numbers ...int) []int {
 		list = append(list, n-1, n, n+1)
 	}
 	return list
+}
+
+// Clocks returns the slowest, an exact, and the fastest clock within ppm, a
+// multiple of 100. They are set to different readings.
+func Clocks(ppm int) []clock.Clock {
+	const parts = 10000
+	return []clock.Clock{
+		{Offset: 3, Num: parts - ppm/100, Den: parts},
+		{Num: 1, Den: 1},
+		{Offset: 70000, Num: parts + ppm/100, Den: parts},
+	}
+}
+
+// Reading returns what the clock shows at the true time. Both are valid.
+func Reading(c clock.Clock, at int) int {
+	n, err := clock.Read(c, at)
+	if err != nil {
+		panic(err)
+	}
+	return n
 }
 
 // Random chooses numbers from 0 to n-1, as a *rand.Rand does. (This package has

@@ -7,9 +7,28 @@ import (
 	"strings"
 	"testing"
 
+	"quayside/clock"
 	"quayside/field"
+	"quayside/httpdate"
 	"quayside/samples"
 )
+
+func TestDates(t *testing.T) {
+	for _, c := range []struct {
+		date    string
+		seconds int
+	}{
+		{samples.Date, 784111777},
+		{samples.Later, 784111837},
+		{samples.Sooner, 784110777},
+		{samples.FirstDate, 0},
+		{samples.LastDate, 253402300799},
+	} {
+		if got, err := httpdate.Parse(c.date); got != c.seconds || err != nil {
+			t.Errorf("%s is %d, %v; want %d", c.date, got, err, c.seconds)
+		}
+	}
+}
 
 func TestFields(t *testing.T) {
 	want := field.Fields{{Name: "A", Value: "b"}, {Name: "", Value: "c"}, {Name: "A", Value: ""}}
@@ -130,6 +149,36 @@ func TestAround(t *testing.T) {
 	if list := samples.Around(-1, 7); !slices.Equal(list, append(ends, -2, -1, 0, 6, 7, 8)) {
 		t.Errorf("Around = %d", list)
 	}
+}
+
+func TestClocks(t *testing.T) {
+	for ppm := 0; ppm <= 100000; ppm += 100 {
+		clocks := samples.Clocks(ppm)
+		if len(clocks) != 3 || clocks[1].Num != clocks[1].Den {
+			t.Fatalf("Clocks(%d) = %+v", ppm, clocks)
+		}
+		for _, c := range clocks {
+			if !clock.Within(c, ppm) {
+				t.Errorf("%+v is not within %d", c, ppm)
+			}
+		}
+		slow, fast := clocks[0], clocks[2]
+		if slow.Num++; ppm > 0 && (fast.Num <= fast.Den || slow.Num > slow.Den || clock.Within(fast, ppm-1)) {
+			t.Errorf("Clocks(%d) = %+v", ppm, clocks)
+		}
+	}
+}
+
+func TestReading(t *testing.T) {
+	if n := samples.Reading(clock.Clock{Offset: 5, Num: 11, Den: 10}, 25); n != 32 {
+		t.Errorf("Reading = %d", n)
+	}
+	defer func() {
+		if recover() == nil {
+			t.Error("Reading of a clock that stands still does not panic")
+		}
+	}()
+	samples.Reading(clock.Clock{Den: 1}, 0)
 }
 
 // distinct returns what some calls of f return, sorted and each once.

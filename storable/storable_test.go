@@ -13,11 +13,7 @@ import (
 	"quayside/storable"
 )
 
-const (
-	date   = "Sun, 06 Nov 1994 08:49:37 GMT"
-	later  = "Sun, 06 Nov 1994 08:50:37 GMT"
-	sooner = "Sun, 06 Nov 1994 08:32:57 GMT"
-)
+const date, later, sooner = samples.Date, samples.Later, samples.Sooner
 
 // of returns the fields with the names and values given in turn.
 var of = samples.Fields

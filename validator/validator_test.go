@@ -23,15 +23,15 @@ var (
 // A second, its date, and the dates of the seconds around it.
 const (
 	second = 784111777
-	date   = "Sun, 06 Nov 1994 08:49:37 GMT"
+	date   = samples.Date
 	sooner = "Sun, 06 Nov 1994 08:49:36 GMT"
 	later  = "Sun, 06 Nov 1994 08:49:38 GMT"
 )
 
 // The dates of the first and of the last second that there are.
 const (
-	first = "Thu, 01 Jan 1970 00:00:00 GMT"
-	last  = "Fri, 31 Dec 9999 23:59:59 GMT"
+	first = samples.FirstDate
+	last  = samples.LastDate
 	end   = 253402300799
 )
 
